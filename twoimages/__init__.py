@@ -1,0 +1,1 @@
+"""Twoimages: a start that never strands a machine."""
