@@ -3,7 +3,7 @@
 import inspect
 import unittest
 
-from twoimages import cells, errors, sums
+from twoimages import books, cells, counters, errors, manifests, pictures, sums
 
 PLAIN_ERRORS = ("Stopped", "BadSize", "BadPlace", "BadWorth", "BadCut", "BadKeys")
 TELLING_ERRORS = (
@@ -73,12 +73,18 @@ class Functions(unittest.TestCase):
                 self.assertIn(word, vars(cells.Memory))
                 self.assertEqual(arguments(vars(cells.Memory)[word]), takes)
 
-    def test_sums(self):
-        listed = {"sums": ["row"], "joined": ["parts"], "name": ["piece"], "seal": ["key", "row"]}
-        for word, takes in listed.items():
-            with self.subTest(word):
-                self.assertEqual(getattr(sums, word).__module__, "twoimages.sums")
-                self.assertEqual(arguments(getattr(sums, word)), takes)
+    def test_functions_stand_in_their_own_files(self):
+        for module, listed in (
+            (sums, {"sums": ["row"], "joined": ["parts"], "name": ["piece"], "seal": ["key", "row"]}),
+            (counters, {"count": ["memory", "place"], "raise_to": ["memory", "place", "number"]}),
+            (books, {"record": ["memory", "place"], "note": ["memory", "place", "row"]}),
+            (pictures, {"judged": ["memory", "keys", "slot"]}),
+            (manifests, {"manifest_of": ["keys", "picture"], "fetched": ["stores", "title"]}),
+        ):
+            for word, takes in listed.items():
+                with self.subTest(word):
+                    self.assertEqual(getattr(module, word).__module__, module.__name__)
+                    self.assertEqual(arguments(getattr(module, word)), takes)
 
 
 if __name__ == "__main__":

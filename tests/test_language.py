@@ -56,6 +56,23 @@ class Language(unittest.TestCase):
                         self.assertNotIn("*", [one.name for one in node.names])
                         self.assertTrue(node.module.startswith("twoimages.") or node.module in LIBRARY)
 
+    def test_no_name_stands_for_two_things(self):
+        for path in files():
+            tree = ast.parse(path.read_text(encoding="utf-8"))
+            imports = [node for node in tree.body if isinstance(node, ast.ImportFrom)]
+            given = [one.asname or one.name for node in imports for one in node.names]
+            given += [node.name for node in tree.body if isinstance(node, (ast.FunctionDef, ast.ClassDef))]
+            given += [node.targets[0].id for node in tree.body if isinstance(node, ast.Assign)]
+            self.assertEqual(sorted(set(given)), sorted(given), path.name)
+            for node in nodes(path):
+                if isinstance(node, ast.FunctionDef):
+                    within = list(ast.walk(node))
+                    inner = [one.arg for one in within if isinstance(one, ast.arg)]
+                    stored = [one for one in within if isinstance(one, ast.Name) and isinstance(one.ctx, ast.Store)]
+                    inner += [one.id for one in stored]
+                    with self.subTest(path.name, function=node.name):
+                        self.assertEqual([word for word in inner if word in given or word in BUILTINS], [])
+
     def test_words(self):
         for path in files():
             for node in nodes(path):

@@ -2,27 +2,15 @@
 
 import unittest
 
-from helping import FAR, Refusals, filled
+from helping import FAR, HOW, Refusals, filled, torn_cell, without_power
 
 from twoimages.cells import Memory
 from twoimages.errors import BadCut, BadPlace, BadSize, BadWorth, Stopped
 
-HOW = ("old", "broken", "new")
-
 
 def dark(*row):
     """A memory of these cells, its power away; its first cell stayed as it was."""
-    memory = filled(*row)
-    memory.cut(0, "old")
-    try:
-        memory.write(0, 1)
-    except Stopped:
-        return memory
-    raise AssertionError("power did not go")
-
-
-def torn_cell(torn, elder, newer):
-    return {"old": elder, "broken": None, "new": newer}[torn]
+    return without_power(filled(*row))
 
 
 class Cuts(Refusals):
