@@ -4,22 +4,14 @@ import itertools
 import unittest
 
 from helping import FAR, HOW, Refusals, filled, stopped, torn_cell, without_power
+from laying import NO_PAGE, page
 
 from twoimages.books import note, record
 from twoimages.cells import Memory
 from twoimages.errors import BadPlace, BadWorth, Stopped
 
-NO_PAGE = [0, 0, 0, 0, 0, 0]
 NO_WORTHS = (-1, 9973, -9972, FAR, -FAR)
 WRITES = 7
-
-
-def page(number, *row):
-    """A page as the document tells it, its sums worked out at once."""
-    four = [number, *row]
-    one = sum(worth + 1 for worth in four) % 9973
-    two = sum((4 - at) * (worth + 1) for at, worth in enumerate(four)) % 9973
-    return four + [one, two]
 
 
 def book(first, second):

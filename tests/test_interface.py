@@ -3,7 +3,7 @@
 import inspect
 import unittest
 
-from twoimages import books, cells, counters, errors, manifests, pictures, sums
+from twoimages import books, cells, counters, errors, manifests, mending, notes, pictures, plans, starting, sums
 
 PLAIN_ERRORS = ("Stopped", "BadSize", "BadPlace", "BadWorth", "BadCut", "BadKeys")
 TELLING_ERRORS = (
@@ -54,8 +54,17 @@ class Errors(unittest.TestCase):
 
 
 class Functions(unittest.TestCase):
+    def methods(self, kind, module, takes, listed):
+        """A class has these methods itself, and takes this."""
+        self.assertEqual(kind.__module__, module)
+        self.assertEqual(arguments(kind), takes)
+        for word, told in listed.items():
+            with self.subTest(word):
+                self.assertIn(word, vars(kind))
+                self.assertEqual(arguments(vars(kind)[word]), told)
+
     def test_memory_has_its_methods_itself(self):
-        listed = {
+        self.methods(cells.Memory, "twoimages.cells", ["size"], {
             "read": ["place"],
             "row": ["place", "many"],
             "cells": [],
@@ -65,13 +74,24 @@ class Functions(unittest.TestCase):
             "spoil": ["place", "worth"],
             "put": ["place", "row"],
             "writes": [],
-        }
-        self.assertEqual(cells.Memory.__module__, "twoimages.cells")
-        self.assertEqual(arguments(cells.Memory), ["size"])
-        for word, takes in listed.items():
-            with self.subTest(word):
-                self.assertIn(word, vars(cells.Memory))
-                self.assertEqual(arguments(vars(cells.Memory)[word]), takes)
+        })
+
+    def test_machine_has_its_methods_itself(self):
+        self.methods(starting.Machine, "twoimages.starting", ["keys", "tries", "picture"], {
+            "start": [],
+            "yes": [],
+            "update": ["manifest", "stores"],
+            "double": [],
+            "up": [],
+            "cut": ["many", "torn"],
+            "spoil": ["slot", "at", "worth"],
+            "runs": [],
+            "book": [],
+            "floors": [],
+            "slots": [],
+            "cells": [],
+            "writes": [],
+        })
 
     def test_functions_stand_in_their_own_files(self):
         for module, listed in (
@@ -80,6 +100,9 @@ class Functions(unittest.TestCase):
             (books, {"record": ["memory", "place"], "note": ["memory", "place", "row"]}),
             (pictures, {"judged": ["memory", "keys", "slot"]}),
             (manifests, {"manifest_of": ["keys", "picture"], "fetched": ["stores", "title"]}),
+            (mending, {"update": ["memory", "keys", "tries", "manifest", "stores"], "double": ["memory", "keys"]}),
+            (plans, {"played": ["machine", "deeds"], "led_over": ["machine", "manifest", "stores"]}),
+            (notes, {"written": ["manifest"], "read": ["text"]}),
         ):
             for word, takes in listed.items():
                 with self.subTest(word):

@@ -70,6 +70,7 @@ class Language(unittest.TestCase):
                     inner = [one.arg for one in within if isinstance(one, ast.arg)]
                     stored = [one for one in within if isinstance(one, ast.Name) and isinstance(one.ctx, ast.Store)]
                     inner += [one.id for one in stored]
+                    inner += [one.name for one in within if isinstance(one, (ast.MatchAs, ast.MatchStar))]
                     with self.subTest(path.name, function=node.name):
                         self.assertEqual([word for word in inner if word in given or word in BUILTINS], [])
 

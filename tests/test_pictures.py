@@ -4,6 +4,7 @@ import itertools
 import unittest
 
 from helping import FAR, Refusals, filled, without_power
+from laying import KEYS, PLACES, both_sums, laid, sealed
 
 from twoimages.cells import Memory
 from twoimages.errors import BadKeys, BadPicture, Stopped
@@ -11,29 +12,8 @@ from twoimages.manifests import manifest_of
 from twoimages.pictures import BOOK, FIRST_SLOT, KEY_FLOOR, MACHINE_CELLS, VERSION_FLOOR, judged, slot_place
 from twoimages.pictures import check_keys, check_picture
 
-KEYS = (5, 9972, 1234, 77)
 CELLS = (4, 0, 9972, 17, 3)
-PLACES = (16, 35)
 REASONS = ("none", "length", "sum", "key", "seal", "old")
-
-
-def both_sums(row):
-    """Both sums of a row, worked out at once."""
-    one = sum(worth + 1 for worth in row) % 9973
-    two = sum((len(row) - at) * (worth + 1) for at, worth in enumerate(row)) % 9973
-    return [one, two]
-
-
-def sealed(key, five):
-    """The five numbers and their seal, worked out at once."""
-    told = key ** 6 + sum((worth + 1) * key ** (4 - at) for at, worth in enumerate(five))
-    return [*five, told % 9973]
-
-
-def laid(version, cells, number, keys=KEYS):
-    """A slot with this picture in it, nothing behind the picture's end."""
-    head = sealed(keys[number], [version, len(cells), *both_sums(cells), number])
-    return [1, *head, *cells] + [0] * (12 - len(cells))
 
 
 def machine(slot, row, versions=(0, 0), key_floor=(0, 0)):
